@@ -1,5 +1,7 @@
 """Who can be served together, who is served, and on which days."""
 
+from placesrow.limits import KINDS
+
 
 class Giving:
     """A giving that takes in one applicant at a time; those already in it stay in it, if perhaps on other days."""
@@ -104,3 +106,25 @@ def told_giving(house, applicants):
         wishes[applicant] = [day]
         told[applicant] = day
     return told
+
+
+def loads_of(house, day_of):
+    """For each day a list: how many come on it, then how many of them of each kind."""
+    loads = [[0] * (1 + KINDS) for day in range(house.day_count)]
+    for applicant in day_of:
+        load = loads[day_of[applicant]]
+        load[0] += 1
+        load[1 + house.kind_of[applicant]] += 1
+    return loads
+
+
+def is_giving(house, day_of):
+    """Whether all can come on the days told by applicant, and no day gets more than it may."""
+    for applicant in day_of:
+        if day_of[applicant] not in house.days_of[applicant]:
+            return False
+    for day, load in enumerate(loads_of(house, day_of)):
+        for many, most in zip(load, house.limits_of(day)):
+            if many > most:
+                return False
+    return True

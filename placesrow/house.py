@@ -19,6 +19,22 @@ class House:
         self.days_of = []
         self.row = []
 
+    def twin(self):
+        """Another house in which all is as here, and which may be changed by itself."""
+        other = House()
+        other.day_count = self.day_count
+        other.places = list(self.places)
+        other.quotas = [list(quotas) for quotas in self.quotas]
+        other.kind_of = list(self.kind_of)
+        # Nobody's days are ever changed, so both houses may share them.
+        other.days_of = list(self.days_of)
+        other.row = list(self.row)
+        return other
+
+    def limits_of(self, day):
+        """The day's places, then how many of each kind may come."""
+        return [self.places[day]] + self.quotas[day]
+
     def applied(self):
         """How many have applied, with those who left."""
         return len(self.kind_of)

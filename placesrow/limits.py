@@ -1,4 +1,4 @@
-"""The ranges of the numbers in calls, and the numbers of the refusals."""
+"""The ranges of the numbers in calls, and the numbers that stand for something else."""
 
 MOST_DAYS = 8
 KINDS = 4
@@ -12,6 +12,11 @@ LIST_NOT_AS_TOLD = -2
 NOT_THERE = -4
 SAME_APPLICANT = -5
 NO_MORE_APPLY = -7
+
+# In the list of check, in the answer of lacking, and in the answer of far.
+NO_DAY = -1
+ANY_KIND = -1
+NO_PLACE = -1
 
 
 def is_within(number, least, greatest):

@@ -38,6 +38,41 @@ SERVED = [7]
 DAYS = [8]
 
 
+def why(x):
+    return [9, x]
+
+
+def can(applicants):
+    return [10, len(applicants), *applicants]
+
+
+def room(applicants):
+    return [11, len(applicants), *applicants]
+
+
+def check(days):
+    return [12, len(days), *days]
+
+
+def would(kind, days):
+    return [13, kind, len(days), *days]
+
+
+def lacking(x):
+    return [14, x]
+
+
+def far(x):
+    return [15, x]
+
+
+LOADS = [16]
+TOLD = [17]
+
+# A number that stands in no range, at the ends of what may be handed in.
+OUTSIDE = (-GREATEST, -GREATEST + 1, GREATEST - 1, GREATEST)
+
+
 def flat(calls):
     return [number for call in calls for number in call]
 
@@ -88,15 +123,27 @@ class Scene:
         made += [ahead(x, y) for x, y in reversed(list(zip(self.row, self.row[1:])))]
         return made
 
+    def ask(self, *calls):
+        """What these calls answer once the scene is made."""
+        made = self.calls()
+        return ask(*made, *calls)[len(made):]
+
+    def last(self, *calls):
+        return self.ask(*calls)[-1]
+
+    def ask_each(self, calls):
+        """What these calls answer, in as many lines as they need with 30 of them in each."""
+        return [answer for at in range(0, len(calls), 30) for answer in self.ask(*calls[at:at + 30])]
+
     def served(self):
-        answer = last(*self.calls(), SERVED)
+        answer = self.last(SERVED)
         if answer[0] != len(answer) - 1:
             raise AssertionError(f"served answers {answer}")
         return answer[1:]
 
     def days(self):
         """The answer of days as pairs of applicant and day."""
-        answer = last(*self.calls(), DAYS)
+        answer = self.last(DAYS)
         if 2 * answer[0] != len(answer) - 1:
             raise AssertionError(f"days answers {answer}")
         return list(zip(answer[1::2], answer[2::2]))
@@ -193,13 +240,20 @@ def parts(applicants):
     return [list(part) for many in range(len(applicants) + 1) for part in itertools.combinations(applicants, many)]
 
 
-def room(scene, applicants):
-    added = 0
+def searched_room(scene, applicants):
+    """For each day what it adds to the room."""
+    added = []
     for d, most in enumerate(scene.places):
         kinds = {scene.people[x][0] for x in applicants if d in scene.people[x][1]}
-        added += min(most, sum(scene.quotas[k, d] for k in kinds))
+        added.append(min(most, sum(scene.quotas[k, d] for k in kinds)))
     return added
 
 
 def is_crowd(scene, applicants):
-    return len(applicants) > room(scene, applicants)
+    return len(applicants) > sum(searched_room(scene, applicants))
+
+
+def searched_crowd(scene, applicants):
+    """Of all crowds in the set those with the fewest, of these the first by their numbers; None if there is none."""
+    crowds = [sorted(part) for part in parts(applicants) if is_crowd(scene, part)]
+    return min(crowds, key=lambda crowd: (len(crowd), crowd), default=None)

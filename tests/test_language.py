@@ -13,6 +13,9 @@ STATEMENTS = (ast.Assign, ast.AugAssign, ast.If, ast.While, ast.For, ast.Return,
               ast.Raise, ast.Try, ast.Expr, ast.FunctionDef, ast.ClassDef, ast.ImportFrom)
 NOT_WRITTEN = (ast.SetComp, ast.DictComp, ast.GeneratorExp, ast.NamedExpr, ast.Starred, ast.Div, ast.MatMult,
                ast.Await, ast.Yield, ast.YieldFrom)
+# What may be written under conditions that this package never needs to be held to, as it does without.
+DONE_WITHOUT = (ast.Set, ast.Try, ast.Raise, ast.Lambda, ast.JoinedStr, ast.Pow, ast.AnnAssign)
+WALKED = {"zip", "enumerate", "reversed", "range", "items", "keys", "values"}
 OWN_NAMES = set("""len range enumerate zip min max sum abs sorted reversed int str bool list tuple dict set frozenset
     isinstance ord repr any all divmod Exception ValueError TypeError KeyError IndexError LookupError
     ZeroDivisionError ArithmeticError OverflowError RuntimeError NotImplementedError AttributeError
@@ -28,10 +31,12 @@ NO_WORDS = re.compile(r"\b(type|typing|typing_extensions|enum|Enum|IntEnum|StrEn
                       r"dataclass|overload|contextmanager")
 
 
+NODES = [(path.name, node) for path in FILES for node in ast.walk(ast.parse(path.read_text()))]
+
+
 def walk(kind):
     """Every such node of the package with its file."""
-    return [(path.name, node) for path in FILES for node in ast.walk(ast.parse(path.read_text()))
-            if isinstance(node, kind)]
+    return [(name, node) for name, node in NODES if isinstance(node, kind)]
 
 
 def bound_names():
@@ -110,6 +115,31 @@ class Forms(unittest.TestCase):
             for operator, right in zip(node.ops, node.comparators):
                 if isinstance(operator, (ast.Is, ast.IsNot)):
                     self.assertIsInstance(right, ast.Constant, name)
+
+    def test_forms_that_the_package_does_without(self):
+        self.assertEqual(walk(DONE_WITHOUT), [])
+        self.assertEqual([name for name, node in walk(ast.Name) if node.id in ("set", "frozenset", "chr")], [])
+        self.assertEqual([name for name, node in walk(ast.Call) if node.keywords], [])
+        for name, node in walk(ast.FunctionDef):
+            self.assertEqual([argument.annotation for argument in node.args.args if argument.annotation], [], name)
+            self.assertIsNone(node.returns, name)
+            self.assertEqual(node.args.defaults, [], name)
+
+    def test_what_is_walked_is_walked_at_once(self):
+        at_once = [node.iter for name, node in walk((ast.For, ast.comprehension))]
+        for name, node in walk(ast.Call):
+            called = node.func.id if isinstance(node.func, ast.Name) else node.func.attr
+            if called in WALKED:
+                self.assertIn(node, at_once, (name, node.lineno))
+
+    def test_no_two_files_draw_from_one_another(self):
+        draws = {path.stem: set() for path in FILES}
+        for name, node in walk(ast.ImportFrom):
+            draws[name.removesuffix(".py")].add(node.module.removeprefix("placesrow."))
+        while draws:
+            free = [stem for stem in draws if not draws[stem] & set(draws)]
+            self.assertNotEqual(free, [], draws)
+            draws = {stem: draws[stem] for stem in draws if stem not in free}
 
     def test_functions(self):
         for name, node in walk(ast.FunctionDef):

@@ -2,9 +2,7 @@
 
 import unittest
 
-from tests.helper import GREATEST, ROW, SERVED, ahead, apply, ask, house, last, leave, places, quota
-
-OUTSIDE = (-GREATEST, -GREATEST + 1, GREATEST - 1, GREATEST)
+from tests.helper import GREATEST, OUTSIDE, ROW, SERVED, ahead, apply, ask, house, last, leave, places, quota
 
 
 def in_row(many):
@@ -221,54 +219,6 @@ class Row(unittest.TestCase):
 
     def test_tells_those_who_are_not_served_too(self):
         self.assertEqual(ask(*in_row(2), SERVED, ROW)[2:], [[0], [2, 0, 1]])
-
-
-class RefusalsChangeNothing(unittest.TestCase):
-    """What comes behind a refused call is answered as if the call had not been."""
-
-    def begin(self):
-        return [house(3), places(0, 1), places(1, 2), places(2, 1), quota(0, 1, 1), quota(1, 2, 0), quota(2, 0, 3),
-                apply(0, [0, 1]), apply(0, [0, 1]), apply(1, [1, 2]), apply(2, [0]), apply(3, [2]), leave(3),
-                apply(0, [0]), ahead(5, 1)]
-
-    def look(self):
-        """All that the calls can show; it changes the scene, so it comes last."""
-        seen = [ROW, SERVED, [8]]
-        seen += [places(d, 1) for d in range(8)]
-        seen += [quota(k, d, 1) for k in range(4) for d in range(8)]
-        return [*seen, apply(0, [0]), ROW, [8]]
-
-    def assert_unchanged(self, begin, refused, number):
-        look = self.look()
-        found = ask(*begin, refused, *look)
-        self.assertEqual(found[len(begin)], [number], refused)
-        self.assertEqual(found[len(begin) + 1:], ask(*begin, *look)[len(begin):], refused)
-
-    def test_ranges(self):
-        for call in (house(0), house(9), places(8, 1), places(0, 10), quota(4, 0, 1), quota(0, 8, 1), quota(0, 0, 10),
-                     apply(4, [0]), leave(20), leave(-1), ahead(20, 0), ahead(0, -1), places(-1, 5), places(0, -1),
-                     quota(-1, 0, 1), quota(0, -1, 1), quota(0, 0, -1), apply(-1, [0])):
-            self.assert_unchanged(self.begin(), call, -1)
-
-    def test_who_or_what_is_not_there(self):
-        for call in (places(3, 1), quota(0, 3, 1), leave(3), leave(6), ahead(3, 0), ahead(0, 3), ahead(6, 6)):
-            self.assert_unchanged(self.begin(), call, -4)
-
-    def test_lists(self):
-        for days in ([], [1, 1], [2, 1], [3], [-1, 0], list(range(60))):
-            self.assert_unchanged(self.begin(), apply(0, days), -2)
-
-    def test_one_ahead_of_themselves(self):
-        for x in (0, 1, 2, 4, 5):
-            self.assert_unchanged(self.begin(), ahead(x, x), -5)
-
-    def test_a_full_row(self):
-        begin = [*self.begin(), apply(1, [1]), apply(1, [1]), apply(1, [1])]
-        self.assert_unchanged(begin, apply(1, [1]), -7)
-
-    def test_a_refused_one_has_not_applied(self):
-        calls = [*in_row(8), apply(0, [0]), apply(0, []), apply(9, [0]), leave(0), apply(0, [0])]
-        self.assertEqual(last(*calls), [8])
 
 
 if __name__ == "__main__":
